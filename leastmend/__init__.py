@@ -1,0 +1,1 @@
+"""Leastmend: reading any text with the least mending, and keeping the tree under edits."""

@@ -1,0 +1,1 @@
+"""Grammars: their written form, and the tests that a sound one passes."""
