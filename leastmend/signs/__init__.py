@@ -1,0 +1,1 @@
+"""Signs: the lexicons, and the texts that they cut."""
