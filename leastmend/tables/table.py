@@ -2,7 +2,8 @@
 
 from leastmend.grammars.grammar import names_of
 from leastmend.tables.costs import added, least
-from leastmend.tables.prices import leaf_price, out_price
+from leastmend.tables.leaves import leaf_costs, shorter_first
+from leastmend.tables.prices import out_price
 
 
 def table(grammar, prices, row):
@@ -12,7 +13,7 @@ def table(grammar, prices, row):
 
 def filled(grammar, prices, row, known):
     """Return the table of a row of which some stretches are known; these are taken as they are."""
-    leaves = _leaf_costs(grammar, prices, row)
+    leaves = leaf_costs(grammar, prices, row)
     # The costs of all symbols, for stretches whose entries are there: those of kinds and of names in one dict.
     costs = {}
     entries = {}
@@ -26,26 +27,6 @@ def filled(grammar, prices, row, known):
         names = {name: found.get(("name", name)) for name in names_of(grammar)}
         costs[(i, j)] = {**leaves[(i, j)], **names}
     return entries
-
-
-def shorter_first(many):
-    """Return the stretches of a row of so many signs, shorter ones before longer ones."""
-    return [(i, i + length) for length in range(many + 1) for i in range(many - length + 1)]
-
-
-def _leaf_costs(grammar, prices, row):
-    """Return a dict from each stretch to a dict from each kind of the grammar to the cost of its leaf."""
-    names = names_of(grammar)
-    kinds = sorted({symbol for name, symbols in grammar for symbol in symbols if symbol not in names})
-    costs = {}
-    for i, j in shorter_first(len(row)):
-        if j - i < 2:
-            costs[(i, j)] = {kind: (leaf_price(prices, row, kind, i, j), 1) for kind in kinds}
-        else:
-            # A leaf over several signs leaves out the first one, and the rest of it is a leaf, too.
-            out = out_price(prices, row[i])
-            costs[(i, j)] = {kind: (out + costs[(i + 1, j)][kind][0], 1) for kind in kinds}
-    return costs
 
 
 def _pieces(grammar, costs, entries, i, j):

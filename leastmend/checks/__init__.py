@@ -1,0 +1,1 @@
+"""Checks: papers that show that no mending is cheaper, and how much dearer other trees are."""

@@ -1,0 +1,1 @@
+"""Edits: rows and texts that change, with their tables."""
